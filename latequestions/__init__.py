@@ -1,0 +1,1 @@
+"""Latequestions: questions to a table that are asked when one looks."""

@@ -1,0 +1,146 @@
+"""Rules of the language subset that can be seen in the files of the package one by one, or in all names together."""
+
+import ast
+import pathlib
+import re
+import unittest
+
+PACKAGE = pathlib.Path(__file__).resolve().parent.parent / "latequestions"
+BARRED_WORDS = (
+    "type typing typing_extensions enum Enum IntEnum StrEnum Flag IntFlag Generic Protocol ABC ABCMeta namedtuple"
+    " NamedTuple TypedDict TYPE_CHECKING abstractmethod"
+).split()
+BARRED_NAMES = "register mro elements open input law version_info with_traceback add_note format format_map".split()
+BUILTINS = (
+    "len range enumerate zip min max sum abs sorted reversed int str bool bytes list tuple dict set frozenset"
+    " isinstance ord repr any all divmod iter next Exception ValueError TypeError KeyError IndexError LookupError"
+    " ZeroDivisionError ArithmeticError OverflowError RuntimeError NotImplementedError AttributeError StopIteration"
+    " NotImplemented property classmethod staticmethod super"
+).split()
+BARRED_STATEMENTS = (
+    ast.Global, ast.AsyncFunctionDef, ast.AsyncFor, ast.AsyncWith, ast.Await, ast.Import, ast.Div, ast.MatMult,
+)
+DOUBLE_UNDERSCORES = (
+    "init eq repr str len enter exit call iter lt le gt ge ne and or xor invert neg bool contains getitem setitem ior"
+).split()
+
+
+def trees():
+    for path in sorted(PACKAGE.rglob("*.py")):
+        yield path, ast.parse(path.read_text())
+
+
+def nodes(tree, *kinds):
+    return [node for node in ast.walk(tree) if isinstance(node, kinds)]
+
+
+class FilesTest(unittest.TestCase):
+
+    def test_the_folder_holds_plain_files_only(self):
+        paths = [path for path in PACKAGE.rglob("*") if "__pycache__" not in path.parts]
+        self.assertIn(PACKAGE / "__init__.py", paths)
+        for path in paths:
+            self.assertTrue(re.fullmatch(r"__init__\.py|[a-z][a-z0-9_]*\.py", path.name), path)
+
+    def test_characters_and_sizes(self):
+        for path, tree in trees():
+            text = path.read_text()
+            self.assertFalse(re.search(r"[^ -~\n]", text), path)
+            self.assertTrue(len(text.splitlines()) <= 399, path)
+            self.assertTrue(max(len(line) for line in text.splitlines()) <= 120, path)
+            for node in nodes(tree, ast.FunctionDef):
+                self.assertTrue(node.end_lineno - node.lineno < 40, (path, node.name))
+
+    def test_barred_words(self):
+        for path, tree in trees():
+            words = re.findall(r"\w+", path.read_text())
+            self.assertEqual([word for word in words if word in BARRED_WORDS], [], path)
+            self.assertFalse(re.search("dataclass|overload|contextmanager", path.read_text()), path)
+
+
+class StatementsTest(unittest.TestCase):
+
+    def test_imports(self):
+        edges = {}
+        for path, tree in trees():
+            first = [node for node in tree.body if not isinstance(node, ast.Expr)]
+            imports = nodes(tree, ast.ImportFrom)
+            self.assertEqual(first[:len(imports)], imports, path)
+            edges[path.stem] = [node.module.split(".")[1] for node in imports]
+            for node in imports:
+                self.assertTrue(node.module.startswith("latequestions.") and node.level == 0, path)
+                defined = ast.parse((PACKAGE / (node.module.split(".")[1] + ".py")).read_text()).body
+                names = [getattr(thing, "name", None) for thing in defined]
+                for alias in node.names:
+                    self.assertIn(alias.name, names, path)
+        while edges:
+            free = [stem for stem in edges if not [other for other in edges[stem] if other in edges]]
+            self.assertTrue(free, "files import from each other")
+            for stem in free:
+                edges.pop(stem)
+
+    def test_barred_statements(self):
+        for path, tree in trees():
+            self.assertEqual(nodes(tree, *BARRED_STATEMENTS), [], path)
+            for node in nodes(tree, ast.Constant):
+                self.assertNotIsInstance(node.value, float)
+                self.assertNotIn("%", node.value if isinstance(node.value, str) else "", path)
+            for node in nodes(tree, ast.Compare):
+                for sign, right in zip(node.ops, node.comparators):
+                    if isinstance(sign, (ast.Is, ast.IsNot)):
+                        self.assertIn(getattr(right, "value", 0), (None, True, False), (path, node.lineno))
+
+    def test_module_level(self):
+        for path, tree in trees():
+            for node in tree.body[1:]:
+                self.assertIsInstance(node, (ast.ImportFrom, ast.FunctionDef, ast.ClassDef, ast.Assign), path)
+
+    def test_raise_makes_its_error_on_the_spot(self):
+        for path, tree in trees():
+            for node in nodes(tree, ast.Raise):
+                self.assertTrue(isinstance(node.exc, ast.Call) and isinstance(node.exc.func, ast.Name), path)
+
+    def test_sums_over_lists_instead_of_generators(self):
+        for path, tree in trees():
+            self.assertEqual(nodes(tree, ast.GeneratorExp), [], path)
+
+
+class NamesTest(unittest.TestCase):
+
+    def test_builtins(self):
+        known = dir(__builtins__) if not isinstance(__builtins__, dict) else list(__builtins__)
+        for path, tree in trees():
+            used = [node.id for node in nodes(tree, ast.Name)] + [node.arg for node in nodes(tree, ast.arg)]
+            self.assertEqual([name for name in used if name in known and name not in BUILTINS], [], path)
+            bound = [node.id for node in nodes(tree, ast.Name) if not isinstance(node.ctx, ast.Load)]
+            bound += [node.arg for node in nodes(tree, ast.arg)]
+            self.assertEqual([name for name in bound if name in known], [], path)
+
+    def test_plain_names(self):
+        for path, tree in trees():
+            names = [node.id for node in nodes(tree, ast.Name)] + [node.attr for node in nodes(tree, ast.Attribute)]
+            names += [node.arg for node in nodes(tree, ast.arg)]
+            names += [node.name for node in nodes(tree, ast.ClassDef)]
+            self.assertEqual([name for name in names if name.startswith("_") or name in BARRED_NAMES], [], path)
+            for node in nodes(tree, ast.FunctionDef):
+                plain = node.name.removeprefix("__").removesuffix("__")
+                self.assertTrue(not node.name.startswith("_") or plain in DOUBLE_UNDERSCORES, (path, node.name))
+
+    def test_no_name_is_a_method_here_and_an_attribute_there(self):
+        methods, attributes = set(), set()
+        for path, tree in trees():
+            for kind in nodes(tree, ast.ClassDef):
+                methods |= {node.name for node in kind.body if isinstance(node, ast.FunctionDef)
+                            and not any(getattr(mark, "id", "setter") in ("property", "setter")
+                                        for mark in node.decorator_list)}
+            attributes |= {node.attr for node in nodes(tree, ast.Attribute) if isinstance(node.ctx, ast.Store)}
+        self.assertEqual(methods & attributes, set())
+
+    def test_no_local_name_is_that_of_a_class_or_an_import(self):
+        for path, tree in trees():
+            taken = [node.name for node in nodes(tree, ast.ClassDef)]
+            taken += [alias.name for node in nodes(tree, ast.ImportFrom) for alias in node.names]
+            self.assertEqual(len(taken), len(set(taken)), path)
+            bound = [node.id for node in nodes(tree, ast.Name) if not isinstance(node.ctx, ast.Load)]
+            bound += [node.arg for node in nodes(tree, ast.arg)]
+            self.assertEqual([name for name in bound if name in taken], [], path)
