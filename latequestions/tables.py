@@ -52,7 +52,7 @@ class Table:
             test = self.filters[name]
             if test(value):
                 mask += number
-            number += number
+            number = number * 2
         return mask
 
     def taken_keys(self, condition):

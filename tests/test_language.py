@@ -34,6 +34,19 @@ def nodes(tree, *kinds):
     return [node for node in ast.walk(tree) if isinstance(node, kinds)]
 
 
+def handed_to_themselves(tree):
+    """The lines in which `+=`, `|=`, `extend` or `update` gets the very thing that it changes."""
+    lines = []
+    for node in nodes(tree, ast.AugAssign):
+        if isinstance(node.op, (ast.Add, ast.BitOr)) and ast.unparse(node.target) == ast.unparse(node.value):
+            lines.append(node.lineno)
+    for node in nodes(tree, ast.Call):
+        if isinstance(node.func, ast.Attribute) and node.func.attr in ("extend", "update"):
+            given = [ast.unparse(thing) for thing in node.args]
+            lines += [node.lineno] if ast.unparse(node.func.value) in given else []
+    return lines
+
+
 class FilesTest(unittest.TestCase):
 
     def test_the_folder_holds_plain_files_only(self):
@@ -99,6 +112,15 @@ class StatementsTest(unittest.TestCase):
         for path, tree in trees():
             for node in nodes(tree, ast.Raise):
                 self.assertTrue(isinstance(node.exc, ast.Call) and isinstance(node.exc.func, ast.Name), path)
+
+    def test_nothing_is_handed_to_what_changes_it(self):
+        samples = ("n += n", "box.n |= box.n", "xs[0] += xs[0]", "xs.extend(xs)", "d.of.update(d.of)")
+        for text in samples:
+            self.assertEqual(len(handed_to_themselves(ast.parse(text))), 1, text)
+        for text in ("n += m", "n += box.n", "n *= n", "xs.extend(list(xs))", "d.update(e)", "xs.append(xs)"):
+            self.assertEqual(handed_to_themselves(ast.parse(text)), [], text)
+        for path, tree in trees():
+            self.assertEqual(handed_to_themselves(tree), [], path)
 
     def test_sums_over_lists_instead_of_generators(self):
         for path, tree in trees():
