@@ -49,10 +49,46 @@ INTERFACE = {
         },
     },
 }
+INTERFACE |= {
+    "programs": {
+        "Program": {
+            "__init__": "(self, rows, form)", "of": "(form, *rows)", "names": "(self, kind=None)",
+            "condition_of": "(self, name)", "busy": "(self)", "calm": "(self)", "turnable": "(self)",
+            "turned": "(self, rows)", "goes_along": "(self, other)", "__len__": "(self)", "__eq__": "(self, other)",
+            "__str__": "(self)",
+        },
+        "Step": {},
+    },
+    "runs": {
+        "Outside": {"__init__": "(self, picks=(), choices=(), cuts=(), deeds=(), *, value=None)"},
+        "Run": {
+            "__init__": "(self, program, store, outside)", "holding": "(self, name)", "objects": "(self, name)",
+            "step": "(self)", "go": "(self)",
+        },
+    },
+    "askings": {
+        "Askings": {
+            "__init__": "(self, program, book)", "sources": "(self, step)", "shortest_way": "(self, step, source)",
+            "stands_with": "(self, other, one)", "least": "(self)", "most": "(self)", "way_asked": "(self, way)",
+        },
+    },
+    "worlds": {
+        "Worlds": {
+            "__init__": "(self, program, here, there, *, against=None, most=3000)", "__len__": "(self)",
+            "__contains__": "(self, x)", "firsts": "(self)", "worlds": "(self)", "followers": "(self, world)",
+            "distance": "(self, world)", "after": "(self, start, labels)",
+        },
+    },
+}
+FUNCTIONS = {
+    "runs": {"perform": "(program, rows, filters, book, outside)"},
+    "askings": {"ways": "(program, most)"},
+}
 PROPERTIES = {
-    "Store": {"asked": False, "is_quiet": False, "book": True},
-    "Question": {"kept": False},
-    "Row": {"touched": False},
+    ("stores", "Store"): {"asked": False, "is_quiet": False, "book": True},
+    ("stores", "Question"): {"kept": False},
+    ("stores", "Row"): {"touched": False},
+    ("runs", "Run"): {"is_over": False, "shown": False, "refused": False, "bound": False},
 }
 
 
@@ -68,9 +104,23 @@ class InterfaceTest(unittest.TestCase):
                     self.assertIn(name, vars(kind), f"{class_name}.{name}")
                     self.assertEqual(str(inspect.signature(getattr(kind, name))), parameters, f"{class_name}.{name}")
 
+    def test_functions(self):
+        for module_name, functions in FUNCTIONS.items():
+            for name, parameters in functions.items():
+                function = getattr(importlib.import_module(f"latequestions.{module_name}"), name)
+                self.assertEqual(function.__module__, f"latequestions.{module_name}")
+                self.assertEqual(str(inspect.signature(function)), parameters, name)
+
+    def test_generators(self):
+        from latequestions.askings import ways
+        from latequestions.forms import Form
+        from latequestions.worlds import Worlds
+        for function in (ways, Worlds.firsts, Form.all_looks):
+            self.assertTrue(inspect.isgeneratorfunction(function))
+
     def test_properties(self):
-        for class_name, properties in PROPERTIES.items():
-            kind = getattr(importlib.import_module("latequestions.stores"), class_name)
+        for (module_name, class_name), properties in PROPERTIES.items():
+            kind = getattr(importlib.import_module(f"latequestions.{module_name}"), class_name)
             for name, can_be_assigned in properties.items():
                 self.assertIsInstance(vars(kind)[name], property)
                 self.assertEqual(vars(kind)[name].fset is not None, can_be_assigned)

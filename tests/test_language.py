@@ -47,6 +47,25 @@ def handed_to_themselves(tree):
     return lines
 
 
+VALUE_METHODS = (
+    "append clear copy count endswith extend find get index insert isalnum isalpha isdigit islower isspace isupper items"
+    " join keys ljust lower lstrip partition pop remove replace reverse rfind rjust rpartition rsplit rstrip setdefault"
+    " split splitlines startswith strip update upper values zfill bit_length removeprefix removesuffix"
+).split()
+AT_ONCE = "zip enumerate reversed range".split()
+TAKES_AT_ONCE = "list tuple dict sorted sum any all enumerate zip reversed len".split()
+
+
+def parents(tree):
+    """A dict from each node to the one that it stands in."""
+    return {child: node for node in ast.walk(tree) for child in ast.iter_child_nodes(node)}
+
+
+def called(node):
+    """The name of a function that is called by its name."""
+    return node.func.id if isinstance(node, ast.Call) and isinstance(node.func, ast.Name) else ""
+
+
 class FilesTest(unittest.TestCase):
 
     def test_the_folder_holds_plain_files_only(self):
@@ -84,6 +103,7 @@ class StatementsTest(unittest.TestCase):
                 self.assertTrue(node.module.startswith("latequestions.") and node.level == 0, path)
                 defined = ast.parse((PACKAGE / (node.module.split(".")[1] + ".py")).read_text()).body
                 names = [getattr(thing, "name", None) for thing in defined]
+                names += [target.id for thing in defined for target in getattr(thing, "targets", [])]
                 for alias in node.names:
                     self.assertIn(alias.name, names, path)
         while edges:
@@ -121,6 +141,50 @@ class StatementsTest(unittest.TestCase):
             self.assertEqual(handed_to_themselves(ast.parse(text)), [], text)
         for path, tree in trees():
             self.assertEqual(handed_to_themselves(tree), [], path)
+
+    def test_methods_that_are_called(self):
+        own = [node.name for path, tree in trees() for kind in nodes(tree, ast.ClassDef) for node in kind.body
+               if isinstance(node, ast.FunctionDef)]
+        for path, tree in trees():
+            for node in nodes(tree, ast.Call):
+                if isinstance(node.func, ast.Attribute):
+                    self.assertTrue(node.func.attr in own + VALUE_METHODS, (path, node.lineno, node.func.attr))
+
+    def test_ranges_and_the_like_are_iterated_at_once(self):
+        for path, tree in trees():
+            above = parents(tree)
+            for node in nodes(tree, ast.Call):
+                if called(node) in AT_ONCE:
+                    place = above[node]
+                    is_loop = isinstance(place, (ast.For, ast.comprehension)) and place.iter == node
+                    self.assertTrue(is_loop or called(place) in TAKES_AT_ONCE, (path, node.lineno))
+
+    def test_sets_stand_where_they_may(self):
+        for path, tree in trees():
+            above = parents(tree)
+            self.assertEqual(nodes(tree, ast.Set, ast.SetComp), [], path)
+            for node in nodes(tree, ast.Call):
+                if called(node) == "set":
+                    self.assertIn(called(above[node]), ("sorted", "len"), (path, node.lineno))
+
+    def test_generators_are_iterated_at_once(self):
+        names = [node.name for path, tree in trees() for node in nodes(tree, ast.FunctionDef)
+                 if nodes(node, ast.Yield, ast.YieldFrom)]
+        self.assertEqual(sorted(names), ["all_looks", "firsts", "ways"])
+        for path, tree in trees():
+            used = [node.id for node in nodes(tree, ast.Name)] + [node.attr for node in nodes(tree, ast.Attribute)]
+            # The package itself calls none of them; `ways` is a name of values in books.py, where it is not called.
+            self.assertEqual([name for name in used if name in names and path.stem != "books"], [], path)
+
+    def test_attributes_that_are_read_are_assigned(self):
+        known = VALUE_METHODS + ["setter"] + [node.name for path, tree in trees() for node in nodes(tree, ast.FunctionDef)]
+        known += [node.attr for path, tree in trees() for node in nodes(tree, ast.Attribute)
+                  if isinstance(node.ctx, ast.Store)]
+        known += [target.id for path, tree in trees() for kind in nodes(tree, ast.ClassDef) for node in kind.body
+                  if isinstance(node, ast.Assign) for target in node.targets]
+        for path, tree in trees():
+            for node in nodes(tree, ast.Attribute):
+                self.assertTrue(node.attr in known, (path, node.lineno, node.attr))
 
     def test_sums_over_lists_instead_of_generators(self):
         for path, tree in trees():
