@@ -40,7 +40,8 @@ class SourcesTest(Case):
             self.same(self.all_sources(book, *rows), [(0,)] * 3)
 
     def test_listings(self):
-        rows = ("q = all", "xs = list q", "len q", "ys = xs[?:?]", "for w in ys", "end", "has xs[?]", "xs = list xs", "any xs")
+        rows = ("q = all", "xs = list q", "len q", "ys = xs[?:?]", "for w in ys", "end", "has xs[?]", "xs = list xs",
+                "any xs")
         self.same(self.all_sources(Book.fresh(), *rows), [(1,), (2,), (1,), (1,), (1,), (1,), (1,)])
         self.same(self.all_sources(Book.usual(), *rows), [(1,)] * 7)
         self.same(self.all_sources(Book(list="ask"), *rows), [(1,), (2,), (1,), (1,), (1,), (1,), (1,)])
@@ -71,7 +72,8 @@ class SourcesTest(Case):
         self.same(self.all_sources(Book.usual(), *rows), [(2,)])
 
     def test_a_listing_of_one_of_two_questions(self):
-        rows = ("q = all", "r = q", "either", "xs = list q", "or", "xs = list r", "end", "repeat", "len xs", "xs = list r",
+        rows = ("q = all", "r = q", "either", "xs = list q", "or", "xs = list r", "end", "repeat", "len xs",
+                "xs = list r",
                 "end")
         self.same(self.all_sources(Book.usual(), *rows), [(3,), (4,), (3, 4, 7), (4, 7)])
 
@@ -102,18 +104,22 @@ class ShortestWayTest(Case):
     def test_the_least_of_equally_short_ways(self):
         told = askings(Book.usual(), "q = all", "either", "others", "or", "others", "or", "others", "end", "len q")
         self.same(told.shortest_way(5, 5), (0, 1, 2, 5))
-        told = askings(Book.fresh(), "q = all", "either", "repeat", "others", "end", "or", "others", "or", "others", "end",
+        told = askings(Book.fresh(), "q = all", "either", "repeat", "others", "end", "or", "others", "or", "others",
+                       "end",
                        "xs = list q", "len xs")
         self.same(told.shortest_way(7, 6), (0, 1, 2, 6, 7))
 
     def test_the_least_way_where_both_branches_have_the_source(self):
-        told = askings(Book.usual(), "q = now all", "xs = list q", "either", "others", "or", "xs = q[?:?]", "end", "len xs")
+        told = askings(Book.usual(), "q = now all", "xs = list q", "either", "others", "or", "xs = q[?:?]", "end",
+                       "len xs")
         self.same(told.shortest_way(5, 0), (0, 1, 2, 3, 5))
-        told = askings(Book.usual(), "q = now all", "xs = list q", "either", "xs = q[?:?]", "or", "others", "end", "len xs")
+        told = askings(Book.usual(), "q = now all", "xs = list q", "either", "xs = q[?:?]", "or", "others", "end",
+                       "len xs")
         self.same(told.shortest_way(5, 0), (0, 1, 2, 3, 5))
 
     def test_a_longer_way_to_the_source(self):
-        told = askings(Book.fresh(), "q = all", "xs = list q", "repeat", "either", "ys = list q", "xs = list ys", "or", "end",
+        told = askings(Book.fresh(), "q = all", "xs = list q", "repeat", "either", "ys = list q", "xs = list ys", "or",
+                       "end",
                        "end", "len xs")
         self.same(told.sources(6), (1, 4))
         self.same(told.shortest_way(6, 1), (0, 1, 2, 6))
@@ -204,7 +210,8 @@ class CountsTest(Case):
         self.same(self.counts(Book.usual(), "q = all", "repeat", "xs = list q", "len xs", "end"), [0, 1])
 
     def test_loops_in_which_each_question_asks_once(self):
-        rows = ["b = all", "c = all", "d = all", "repeat", "either", "len b", "or", "len c", "or", "len d", "or", "count d",
+        rows = ["b = all", "c = all", "d = all", "repeat", "either", "len b", "or", "len c", "or", "len d", "or",
+                "count d",
                 "end", "end"]
         self.same(self.counts(Book(count="keep"), *rows), [0, 3])
         self.same(self.counts(Book(), *rows), [0, None])

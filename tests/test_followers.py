@@ -33,7 +33,8 @@ class LooksTest(FollowersCase):
     def test_buildings(self):
         self.table("a:f", "q = f")
         self.same(self.labels((1,)), [()])
-        self.same(self.behind((1,), ()), (1, ((0,), (("q", "unasked"),), ()), ((0,), (("q", 0),), (((0, 0),),)), ((1,),)))
+        self.same(self.behind((1,), ()), (1, ((0,), (("q", "unasked"),), ()), ((0,), (("q", 0),), (((0, 0),),)),
+                                          ((1,),)))
         self.same(self.sides((0,), ()), [((0,), (("q", "unasked"),), ()), ((0,), (("q", "out"),), ())])
         self.same(self.behind((), ()), (1, ((), (("q", "unasked"),), ()), ((), (("q", "out"),), ()), ((),)))
 
@@ -134,7 +135,8 @@ class PicksTest(FollowersCase):
 
     def test_labels_with_the_same_follower(self):
         self.table("a", "either", "or", "end")
-        self.same(self.told.followers(self.behind((0,))), [((0,), self.behind((0,), (0,))), ((1,), self.behind((0,), (0,)))])
+        self.same(self.told.followers(self.behind((0,))), [((0,), self.behind((0,), (0,))),
+                                                           ((1,), self.behind((0,), (0,)))])
         self.assertEqual(len(self.told), 4)
 
     def test_what_a_branch_has_bound_stays_bound(self):
@@ -213,7 +215,8 @@ class ValuesTest(FollowersCase):
     def test_update(self):
         self.table("a:f", "q = f", "update q.a = ?", here=USUAL, there=USUAL)
         self.same([self.labels((1,), ()), self.labels((0,), ()), self.labels((), ())], [[(0,), (1,)], [()], [()]])
-        self.same(self.behind((1,), (), (0,)), (2, ((0,), (("q", "unasked"),), ()), ((0,), (("q", "unasked"),), ()), ((0,),)))
+        self.same(self.behind((1,), (), (0,)), (2, ((0,), (("q", "unasked"),), ()), ((0,), (("q", "unasked"),), ()),
+                                                ((0,),)))
 
     def test_update_leaves_kept_answers(self):
         self.table("a:f", "q = f", "update q.a = ?")
@@ -221,7 +224,8 @@ class ValuesTest(FollowersCase):
 
     def test_raise(self):
         rows = ("q = all", "x = q[?]", "others", "save x", "update q.a += ?")
-        self.table("a:f", *rows[:3], "save x", "update q.a += ?", there=USUAL, against=[*rows[:3], "save x touched", rows[4]])
+        self.table("a:f", *rows[:3], "save x", "update q.a += ?", there=USUAL,
+                   against=[*rows[:3], "save x touched", rows[4]])
         self.same(self.labels((0,), (), (1,), ("go",), ()), [(0,), (1,)])
         before = [(), (1,), ("write", "a", 0), ("go",), ()]
         self.same(self.labels((0,), *before), [(0, 0), (0, 1), (1, 0), (1, 1)])
@@ -262,7 +266,8 @@ class DeedsTest(FollowersCase):
 
     def test_save_by_an_untouched_field(self):
         self.table("a b", "q = all", "x = q[?]", "x.a = ?", "save x by b", there=USUAL)
-        self.same(self.sides((0, 0), (), (1,), (0,), ())[0], ((0, 0), (("q", "unasked"), ("x", 0)), (((1, 0), (0, 0)),)))
+        self.same(self.sides((0, 0), (), (1,), (0,), ())[0], ((0, 0), (("q", "unasked"), ("x", 0)),
+                                                              (((1, 0), (0, 0)),)))
 
     def test_save_touched_without_touched_fields(self):
         self.table("a b", "q = all", "x = q[?]", "others", "save x touched", there=USUAL)
@@ -348,14 +353,16 @@ class OthersTest(FollowersCase):
 
     def test_remove(self):
         self.table("a:f", "q = all", "others")
-        self.same(self.behind((1,), (), ("remove",)), (1, ((), (("q", "unasked"),), ()), ((), (("q", 0),), (((0, 0),),)), ((1,),)))
+        self.same(self.behind((1,), (), ("remove",)), (1, ((), (("q", "unasked"),), ()),
+                                                       ((), (("q", 0),), (((0, 0),),)), ((1,),)))
 
     def test_numbers_of_values(self):
         # The row here is met first, then the objects here, then the row there, then the objects there.
         self.table("a:f", "q = f", "x = q[?]", "x.a = ?", "others", "save x", there=USUAL,
                    against=["q = f", "x = q[?]", "x.a = ?", "others", "save x touched"])
         world = self.behind((1,), (), (1,), (0,), ("remove",), ("put", 1), ("go",), ())
-        self.same(world, (5, ((0,), (("q", "unasked"), ("x", 0)), (((0, 0),),)), ((0,), (("q", "unasked"), ("x", 0)), (((0, 0),),)),
+        self.same(world, (5, ((0,), (("q", "unasked"), ("x", 0)), (((0, 0),),)),
+                          ((0,), (("q", "unasked"), ("x", 0)), (((0, 0),),)),
                           ((0,),)))
         world = self.behind((1,), (), (1,), (0,), ("put", 1), ("go",))
         self.same(world[1:], (((0,), (("q", "unasked"), ("x", 0)), (((1, 2),),)),

@@ -48,9 +48,9 @@ def handed_to_themselves(tree):
 
 
 VALUE_METHODS = (
-    "append clear copy count endswith extend find get index insert isalnum isalpha isdigit islower isspace isupper items"
-    " join keys ljust lower lstrip partition pop remove replace reverse rfind rjust rpartition rsplit rstrip setdefault"
-    " split splitlines startswith strip update upper values zfill bit_length removeprefix removesuffix"
+    "append clear copy count endswith extend find get index insert isalnum isalpha isdigit islower isspace isupper"
+    " items join keys ljust lower lstrip partition pop remove replace reverse rfind rjust rpartition rsplit rstrip"
+    " setdefault split splitlines startswith strip update upper values zfill bit_length removeprefix removesuffix"
 ).split()
 AT_ONCE = "zip enumerate reversed range".split()
 TAKES_AT_ONCE = "list tuple dict sorted sum any all enumerate zip reversed len".split()
@@ -177,7 +177,8 @@ class StatementsTest(unittest.TestCase):
             self.assertEqual([name for name in used if name in names and path.stem != "books"], [], path)
 
     def test_attributes_that_are_read_are_assigned(self):
-        known = VALUE_METHODS + ["setter"] + [node.name for path, tree in trees() for node in nodes(tree, ast.FunctionDef)]
+        known = VALUE_METHODS + ["setter"]
+        known += [node.name for path, tree in trees() for node in nodes(tree, ast.FunctionDef)]
         known += [node.attr for path, tree in trees() for node in nodes(tree, ast.Attribute)
                   if isinstance(node.ctx, ast.Store)]
         known += [target.id for path, tree in trees() for kind in nodes(tree, ast.ClassDef) for node in kind.body

@@ -4,7 +4,8 @@ from support import GREATEST_KEY, GREATEST_VALUE, ODD_VALUES, Case
 
 NO_DEEDS = ODD_VALUES + [
     0, "put", "remove", ("put",), ("put", 1), ("put", 1, ()), ("put", 1, (1, 2, 3, 4)), ("put", 1, [1]), ("put", 1, 1),
-    ("put", 1, (True,)), ("put", 1, ("a",)), ("put", 1, (None,)), ("put", True, (1,)), ("put", "1", (1,)), ("put", None, (1,)),
+    ("put", 1, (True,)), ("put", 1, ("a",)), ("put", 1, (None,)), ("put", True, (1,)), ("put", "1", (1,)),
+    ("put", None, (1,)),
     ("put", 1, (1,), 2), ["put", 1, (1,)], ("write", 1), ("write", 1, "price"), ("write", 1, "price", True),
     ("write", 1, "price", "1"), ("write", 1, 5, 5), ("write", 1, None, 5), ("write", False, "price", 5),
     ("write", 1, ("price",), 5), ("write", 1, "price", 5, 6), ("remove",), ("remove", None), ("remove", True),
@@ -33,7 +34,8 @@ class OutsideTest(Case):
 
     def test_by_name(self):
         outside = Outside(deeds=(DEEDS,), cuts=[(0, 1)], choices=[2], picks=(1,), value=None)
-        self.same([outside.picks, outside.choices, outside.cuts, outside.deeds], [(1,), (2,), ((0, 1),), (tuple(DEEDS),)])
+        self.same([outside.picks, outside.choices, outside.cuts, outside.deeds],
+                  [(1,), (2,), ((0, 1),), (tuple(DEEDS),)])
         with self.assertRaises(TypeError):
             Outside([], [], [], [], None)
 

@@ -45,11 +45,11 @@ CANONICAL = {
 WRONG = """
 q|x|len|len x|len w|len cheap|len price|len all|len q q|len q[?]|Len q|len q.|has q|has q[?:?]|has x[?]|has q[?
 has q?|has [?]|truth|truth x|count x|any x|any|show|any q xs
-r|r =|= all|= all +|=+|r = now|r = q[?|r = q]|y = q[]|y = q[??]|y = q[?:]|y = q[:?]|y = q[:]|y = q[?;?]|y = q[? ?]|y = x[?]
-y = cheap[?]|ys = x[?:?]|ys = list x|ys = list cheap|ys = list|ys = list all|ys = list q[?]|list q|ys = now list q
-r = r|r = xs|r = x|r = s|r = price|r = cheap cheap|r = cheap &|r = | cheap|r = (cheap|r = cheap)|r = cheap + many
-r = ()|r = ~|r = now now all|r = list|r := all|r == all|r += all|r = Cheap|r = cheap, many|r = now|r = all.|r = nowall
-price = all|cheap = all|all = all|len = all|now = all|cls = all|abcdefghi = all|R = all|r1 = all|r_s = all|r s = all
+r|r =|= all|= all +|=+|r = now|r = q[?|r = q]|y = q[]|y = q[??]|y = q[?:]|y = q[:?]|y = q[:]|y = q[?;?]|y = q[? ?]
+y = x[?]|y = cheap[?]|ys = x[?:?]|ys = list x|ys = list cheap|ys = list|ys = list all|ys = list q[?]|list q
+ys = now list q|r = r|r = xs|r = x|r = s|r = price|r = cheap cheap|r = cheap &|r = | cheap|r = (cheap|r = cheap)
+r = cheap + many|r = ()|r = ~|r = now now all|r = list|r := all|r == all|r += all|r = Cheap|r = cheap, many|r = now|r = all.
+r = nowall|price = all|cheap = all|all = all|len = all|now = all|cls = all|abcdefghi = all|R = all|r1 = all|r_s = all|r s = all
 price = list q|many = q[?]|dear = q[?:?]|list = list q|q, r = all
 q = all|q = now cheap|q = q|xs = all|xs = q[?]|x = all|x = list q|x = q[?:?]|q = list q|q = q[?]|q = q[?:?]
 x.price|x.price = 1|x.price =|x.price = ? ?|x.price + = ?|x.price + ?|x.price ++= ?|x.price +== ?|x.price -= ?
@@ -92,7 +92,8 @@ class RowsTest(Case):
                 self.fails(BadRow, {"at": 3}, Program, BEFORE + [row, "others"], FORM)
 
     def test_blocks(self):
-        rows = ["q = all", " for  w in q", "save w", " end", "repeat ", "end", "either", " or", "or ", "end", "quiet", "end"]
+        rows = ["q = all", " for  w in q", "save w", " end", "repeat ", "end", "either", " or", "or ", "end", "quiet",
+                "end"]
         self.same(Program(rows, FORM).rows, tuple(" ".join(row.split()) for row in rows))
 
     def test_save_by_three_fields(self):
@@ -118,7 +119,8 @@ class RowsTest(Case):
         self.fails(BadRow, {"at": 2}, Program, ["repeat", "others", "len q"], FORM)
 
     def test_spaces_only_between_tokens(self):
-        for row in ("sa ve x", "x.pr ice = ?", "x. price + = ?", "oth ers", "savex", "x.price=?=?", "lenq", "forw in q"):
+        for row in ("sa ve x", "x.pr ice = ?", "x. price + = ?", "oth ers", "savex", "x.price=?=?", "lenq",
+                    "forw in q"):
             self.fails(BadRow, {"at": 3}, Program, [*BEFORE, row], FORM)
 
 
@@ -164,7 +166,8 @@ class BlocksTest(Case):
             self.wrong(4, "q = all", "quiet", "quiet", "quiet", *inner, "end", "end", "end")
 
     def test_rows_three_deep(self):
-        self.right("q = all", "repeat", "repeat", "quiet", "x = q[?]", "x.price = ?", "save x", "len q", "end", "others",
+        self.right("q = all", "repeat", "repeat", "quiet", "x = q[?]", "x.price = ?", "save x", "len q", "end",
+                   "others",
                    "end", "end")
         self.right("q = all", "either", "or", "either", "or", "either", "others", "or", "wipe q", "end", "end", "end")
         self.right("q = all", "repeat", "repeat", "for w in q", "show w.price", "end", "end", "end")
@@ -173,7 +176,8 @@ class BlocksTest(Case):
         self.right("repeat", "end", "repeat", "repeat", "end", "repeat", "repeat", "end", "end", "end")
 
     def test_within_walks_only_deeds(self):
-        for row in ("others", "len q", "has q[?]", "r = all", "xs = list q", "y = q[?]", "for v in q", "repeat", "either",
+        for row in ("others", "len q", "has q[?]", "r = all", "xs = list q", "y = q[?]", "for v in q", "repeat",
+                    "either",
                     "quiet", "or", "update q.price = ?", "update q.price += ?", "wipe q", "xs = q[?:?]"):
             self.wrong(2, "q = all", "for w in q", row, "end")
         for row in ("w.price = ?", "fresh w.stock += ?", "show w.price", "fresh show w.price", "save w", "reread w",
@@ -220,7 +224,8 @@ class NamesTest(Case):
         self.wrong(1, "repeat", "r = q", "q = all", "end")
         self.right("q = all", "repeat", "xs = list q", "len xs", "end", "len q")
         self.right("q = all", "xs = list q", "repeat", "len xs", "xs = list xs", "end", "len xs")
-        self.wrong(9, "q = all", "either", "repeat", "xs = list q", "end", "or", "xs = list q", "end", "len q", "len xs")
+        self.wrong(9, "q = all", "either", "repeat", "xs = list q", "end", "or", "xs = list q", "end", "len q",
+                   "len xs")
 
     def test_quiet(self):
         self.right("quiet", "q = all", "x = q[?]", "end", "save x", "len q")
@@ -352,7 +357,8 @@ class ProgramTest(Case):
         self.assertTrue(one == Program([" q=all"], Form.read("a")))
         self.assertFalse(one != Program([" q=all"], Form.read("a")))
         for other in (Program(["q = all"], Form.read("b")), Program(["q = now all"], Form.read("a")),
-                      Program(["q = (all)"], Form.read("a")), Program([], Form.read("a")), "q = all", None, ["q = all"]):
+                      Program(["q = (all)"], Form.read("a")), Program([], Form.read("a")), "q = all", None,
+                      ["q = all"]):
             self.assertFalse(one == other)
             self.assertTrue(one != other)
 

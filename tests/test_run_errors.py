@@ -16,7 +16,8 @@ def state(run):
     objects = {name: [(thing.key, [thing[field] for field in thing], thing.touched) for thing in run.objects(name)]
                for name in run.bound}
     holding = [run.holding(name) for name in run.bound]
-    return [run.at, run.values_used, run.shown, run.refused, run.bound, objects, holding, run.store.told(), run.store.asked]
+    return [run.at, run.values_used, run.shown, run.refused, run.bound, objects, holding, run.store.told(),
+            run.store.asked]
 
 
 class ErrorCase(Case):
@@ -191,7 +192,8 @@ class TroubleTest(ErrorCase):
             if value > 10 and self.is_strict:
                 raise Trouble()
             return True
-        rows = ("len q", "truth q", "count q", "any q", "has q[?]", "x = q[?]", "xs = list q", "xs = q[?:?]", "for w in q",
+        rows = ("len q", "truth q", "count q", "any q", "has q[?]", "x = q[?]", "xs = list q", "xs = q[?:?]",
+                "for w in q",
                 "update q.price = ?", "wipe q", "r = now q")
         for text in rows:
             self.is_strict = True

@@ -169,7 +169,8 @@ class WalkingTest(RunCase):
         self.same([run.store.asked, run.holding("q")], [2, None])
 
     def test_a_walk_over_a_listing(self):
-        run = self.done("q = all", "xs = q[?:?]", "for w in xs", "w.stock += ?", "save w by stock", "end", cuts=[(2, 4)])
+        run = self.done("q = all", "xs = q[?:?]", "for w in xs", "w.stock += ?", "save w by stock", "end",
+                        cuts=[(2, 4)])
         self.same(self.store.told(), {**ALL, 2: row(50, 1003), 3: row(9, 1003)})
         self.same(run.store.asked, 1)
 
@@ -211,7 +212,8 @@ class DeedsTest(RunCase):
         self.same(self.object_now(), [row(2, 1), ("price", "stock")])
 
     def test_show(self):
-        run = self.after("show x.price", "x.price = ?", "show x.price", "show x.stock", deeds=[("write", 1, "price", 8)])
+        run = self.after("show x.price", "x.price = ?", "show x.price", "show x.stock",
+                         deeds=[("write", 1, "price", 8)])
         self.same(run.shown, [(1, 1), (1, 1001), (1, 5)])
         run = self.after("show x.price", "fresh show x.price", "show x.price", deeds=[("write", 1, "price", 8)])
         self.same(run.shown, [(1, 1), (1, 8), (1, 8)])
@@ -312,7 +314,8 @@ class DeedsTest(RunCase):
 class PerformTest(Case):
 
     def test_perform(self):
-        program = Program(["q = cheap", "x = q[?]", "others", "show x.price", "reread x", "save x by stock", "len q"], FORM)
+        program = Program(["q = cheap", "x = q[?]", "others", "show x.price", "reread x", "save x by stock", "len q"],
+                          FORM)
         rows = {1: row(1, 5), 2: row(50, 1)}
         told = perform(program, rows, FILTERS, Book.usual(), Outside([], [1], [], [[("remove", 1)]]))
         self.same(told, ([(1, 1), 0], [(4, 1), (5, 1)], {2: row(50, 1)}, 2, True))

@@ -38,7 +38,8 @@ class StepsTest(Case):
     def test_deeds(self):
         self.same(self.steps(
             "q = all", "x = q[?]", "x.price = ?", "fresh x.stock = ?", "x.stock += ?", "fresh x.price += ?",
-            "show x.price", "fresh show x.stock", "save x", "save x touched", "save x by stock, price", "save x by price",
+            "show x.price", "fresh show x.stock", "save x", "save x touched", "save x by stock, price",
+            "save x by price",
             "reread x", "delete x", "update q.price = ?", "update q.stock += ?", "wipe q", "others",
         )[2:], [
             (2, "set", "x", "", ("price",), "", False, (3,)),

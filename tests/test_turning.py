@@ -5,9 +5,11 @@ from support import FORM, ODD_VALUES, Case
 
 ROWS = (
     "q = all", "r = now cheap & ~q", "x = q[?]", "x.price = ?", "fresh x.price = ?", "x.stock += ?",
-    "fresh x.stock += ?", "show x.price", "fresh show x.price", "save x", "save x touched", "save x by price", "reread x",
+    "fresh x.stock += ?", "show x.price", "fresh show x.price", "save x", "save x touched", "save x by price",
+    "reread x",
     "delete x", "update q.price = ?", "update q.price += ?", "wipe q", "others", "xs = list q", "xs = q[?:?]", "len q",
-    "has q[?]", "for w in q", "w.price = ?", "save w", "fresh show w.stock", "end", "repeat", "either", "or", "end", "end",
+    "has q[?]", "for w in q", "w.price = ?", "save w", "fresh show w.stock", "end", "repeat", "either", "or", "end",
+    "end",
     "quiet", "end",
 )
 TURNED = {
@@ -109,7 +111,8 @@ class BusyTest(Case):
     def test_walks(self):
         self.same(self.busy("q = all", "for w in q", "save w", "end", "len q"), (
             "others", "q = all", "others", "for w in q", "save w", "end", "others", "len q", "others"))
-        self.same(self.busy("q = all", "for w in q", "end"), ("others", "q = all", "others", "for w in q", "end", "others"))
+        self.same(self.busy("q = all", "for w in q", "end"), ("others", "q = all", "others", "for w in q", "end",
+                                                              "others"))
 
     def test_quiet(self):
         self.same(self.busy("quiet", "q = all", "repeat", "len q", "end", "end", "others"), (

@@ -68,7 +68,8 @@ class TableTest(Case):
                 self.same([table.followers(world), table.distance(world)], [[], 0])
 
     def test_worlds_by_breadth(self):
-        for rows in (("q = f", "others", "x = q[?]", "x.b = ?", "save x"), ("q = f", "repeat", "xs = list q", "wipe q", "end"),
+        for rows in (("q = f", "others", "x = q[?]", "x.b = ?", "save x"),
+                     ("q = f", "repeat", "xs = list q", "wipe q", "end"),
                      ("q = f", "repeat", "either", "x = q[?]", "or", "update q.a += ?", "end", "end")):
             table = table_of("a:f b", *rows)
             worlds = [world for start, world in table.firsts()]
@@ -150,7 +151,8 @@ class MembersTest(Case):
             0, "", list(world), world[1:], (*world, 0), world[0], world[1], (3, *world[1:]), (9, *world[1:]),
             replaced(world, 1, True), replaced(world, 0, False), replaced(world, 2, "2"),
             replaced(world, "x", "y"), replaced(world, "unasked", "out"), replaced(world, "unasked", None),
-            replaced(world, (0, 0), [0, 0]), replaced(world, 0, ((((((((0,),),),),),),),)), replaced(world, 2, 10 ** 40),
+            replaced(world, (0, 0), [0, 0]), replaced(world, 0, ((((((((0,),),),),),),),)),
+            replaced(world, 2, 10 ** 40),
             replaced(world, ((1,), (0,)), ((1,), (0,), (0,))), replaced(world, (1,), (0,)), [world], (world,),
             replaced(world, ("x", 0), ["x", 0]), [[world]],
         ]
@@ -189,7 +191,8 @@ class AfterTest(Case):
         self.same([world[0], world[3]], [3, ((1, 1), (0,))])
 
     def test_wrong_starts(self):
-        for start in ODD_VALUES + [0, "", (0,), (2, 0), (0, 1), (1, 0, 0), [1, 0], (True, 0), (1, False), ((1, 0),), "ab", [()]]:
+        for start in ODD_VALUES + [0, "", (0,), (2, 0), (0, 1), (1, 0, 0), [1, 0], (True, 0), (1, False), ((1, 0),),
+                                   "ab", [()]]:
             if start != ():
                 self.fails(BadStart, {"start": start}, self.table.after, start, ())
                 self.fails(BadStart, {"start": start}, self.table.after, start, None)
