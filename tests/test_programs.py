@@ -48,9 +48,9 @@ has q?|has [?]|truth|truth x|count x|any x|any|show|any q xs
 r|r =|= all|= all +|=+|r = now|r = q[?|r = q]|y = q[]|y = q[??]|y = q[?:]|y = q[:?]|y = q[:]|y = q[?;?]|y = q[? ?]
 y = x[?]|y = cheap[?]|ys = x[?:?]|ys = list x|ys = list cheap|ys = list|ys = list all|ys = list q[?]|list q
 ys = now list q|r = r|r = xs|r = x|r = s|r = price|r = cheap cheap|r = cheap &|r = | cheap|r = (cheap|r = cheap)
-r = cheap + many|r = ()|r = ~|r = now now all|r = list|r := all|r == all|r += all|r = Cheap|r = cheap, many|r = now|r = all.
-r = nowall|price = all|cheap = all|all = all|len = all|now = all|cls = all|abcdefghi = all|R = all|r1 = all|r_s = all|r s = all
-price = list q|many = q[?]|dear = q[?:?]|list = list q|q, r = all
+r = cheap + many|r = ()|r = ~|r = now now all|r = list|r := all|r == all|r += all|r = Cheap|r = cheap, many|r = now
+r = all.|r = nowall|price = all|cheap = all|all = all|len = all|now = all|cls = all|abcdefghi = all|R = all|r1 = all
+r_s = all|r s = all|price = list q|many = q[?]|dear = q[?:?]|list = list q|q, r = all
 q = all|q = now cheap|q = q|xs = all|xs = q[?]|x = all|x = list q|x = q[?:?]|q = list q|q = q[?]|q = q[?:?]
 x.price|x.price = 1|x.price =|x.price = ? ?|x.price + = ?|x.price + ?|x.price ++= ?|x.price +== ?|x.price -= ?
 x.name = ?|x.cheap = ?|x.all = ?|x. = ?|.price = ?|q.price = ?|xs.price += ?|y.price = ?|cheap.price = ?|x price = ?
