@@ -45,6 +45,7 @@ class Run:
         self.cuts_used = 0
         self.lists_used = 0
         self.things = {}
+        self.chosen = {}
         self.notes = []
         self.refusals = []
 
@@ -153,8 +154,10 @@ class Run:
             self.things[step.name] = source.part(low, high)
             self.cuts_used += 1
         elif step.kind == "item":
-            row = source.item(self.outside.choices[self.keys_used])
+            key = self.outside.choices[self.keys_used]
+            row = source.item(key)
             self.things[step.name] = () if row is None else (row,)
+            self.chosen[step.name] = key
             self.keys_used += 1
         elif step.kind == "has":
             self.notes.append(source.has(self.outside.choices[self.keys_used]))

@@ -36,15 +36,11 @@ class Side:
 
     def told_with(self, numbering):
         """The triple (row, holds, objects), with the numbers that a Numbering gives."""
-        row = numbering.numbers_of(self.row)
-        places = {}
-        for name in sorted(self.things):
-            thing = self.things[name]
-            if isinstance(thing, Twofold) and thing not in places:
-                places[thing] = len(places)
-        holds = [(name, told_thing(self.things[name], places)) for name in sorted(self.things)]
-        objects = [numbering.pairs_of(thing) for thing in places]
-        return row, tuple(holds), tuple(objects)
+        return told_side(self.row, self.things, numbering)
+
+    def held_things(self):
+        """The objects of the row that names hold or keep."""
+        return [thing for thing in self.things.values() if isinstance(thing, Twofold)]
 
     def change_row(self, values):
         """The store has the row with these values, or not if there are none."""
@@ -109,13 +105,13 @@ class Side:
             self.reread_thing(thing)
 
     def save_thing(self, step, thing):
+        """Saves an object. A whole save puts a row that is not there; its fields are all of the row's."""
         if step.way == "":
             self.row = list(thing.held)
-            thing.seen = list(thing.held)
-        elif len(self.row) > 0:
-            for field in saved_fields(self.program.form, step, thing):
-                self.row[field] = thing.held[field]
-                thing.seen[field] = thing.held[field]
+        if len(self.row) > 0:
+            for place in saved_fields(self.program.form, step, thing):
+                self.row[place] = thing.held[place]
+                thing.seen[place] = thing.held[place]
 
     def reread_thing(self, thing):
         if len(self.row) > 0:
@@ -127,24 +123,51 @@ class Side:
 
         With `fresh` the object is reread first, so this is a part of the step.
         """
-        field = self.program.form.fields.index(step.fields[0])
         if step.kind == "update" or step.kind == "raise":
-            return self.row[field] if self.is_taken(step.name, masks) else None
+            return self.row[self.place_of(step)] if self.is_taken(step.name, masks) else None
+        return self.held_value(step)
+
+    def held_value(self, step):
+        """The value of a deed's field that the object of the row holds, behind the reread that `fresh` asks for; None
+        if the name holds no such object."""
         thing = self.things[step.name]
         if not isinstance(thing, Twofold):
             return None
         if step.way == "fresh":
             self.reread_thing(thing)
-        return thing.held[field]
+        return thing.held[self.place_of(step)]
 
     def replace_value(self, step, value):
         """Puts the new value of a value step where `replaced_value` found the old one."""
-        field = self.program.form.fields.index(step.fields[0])
         if step.kind == "update" or step.kind == "raise":
-            self.row[field] = value
+            self.row[self.place_of(step)] = value
         else:
             thing = self.things[step.name]
-            thing.held[field] = value
+            thing.held[self.place_of(step)] = value
+
+    def place_of(self, step):
+        """The place of the one field of a step."""
+        return self.program.form.fields.index(step.fields[0])
+
+    def shown_part(self, step, masks):
+        """What a step that shows something shows of the row: of `show` the value, or None for nothing; of a look
+        whether the answer that it takes has an object of the row. It is a part of the step."""
+        if step.kind == "show":
+            return self.held_value(step)
+        return isinstance(self.taken_thing(step, masks), Twofold)
+
+
+def told_side(row, things, numbering):
+    """The triple (row, holds, objects) of a list of values and a dict from names to Twofold objects or words."""
+    told_row = numbering.numbers_of(row)
+    places = {}
+    for name in sorted(things):
+        thing = things[name]
+        if isinstance(thing, Twofold) and thing not in places:
+            places[thing] = len(places)
+    holds = [(name, told_thing(things[name], places)) for name in sorted(things)]
+    objects = [numbering.pairs_of(thing) for thing in places]
+    return told_row, tuple(holds), tuple(objects)
 
 
 def told_thing(thing, places):
@@ -153,10 +176,15 @@ def told_thing(thing, places):
 
 
 def saved_fields(form, step, thing):
-    """The places of the fields that a save in part stores. A field is touched if it is held unlike it was read."""
-    if step.way == "by":
-        return [form.fields.index(field) for field in step.fields]
-    return [field for field in range(len(form.fields)) if thing.held[field] != thing.seen[field]]
+    """The places of the fields that a save stores."""
+    if step.way == "touched":
+        return touched_places(thing)
+    return [form.fields.index(field) for field in step.fields]
+
+
+def touched_places(thing):
+    """The places of the fields of an object that are touched: those that are held unlike they were read."""
+    return [place for place, (held, seen) in enumerate(zip(thing.held, thing.seen)) if held != seen]
 
 
 class Numbering:

@@ -289,8 +289,7 @@ class Others:
 
     def do(self, deed):
         """Does a deed that is written as a tuple."""
-        if not is_deed_of(self.table.form, deed):
-            raise BadDeed(deed)
+        self.must_let_do(deed)
         kind, key, *rest = deed
         if kind == "put":
             values = dict(zip(self.table.form.fields, rest[0]))
@@ -298,6 +297,12 @@ class Others:
         if kind == "write":
             return self.write(key, rest[0], rest[1])
         return self.remove(key)
+
+    def must_let_do(self, deed):
+        """Raises what `do` raises for a deed, any value, but does nothing."""
+        if not is_deed_of(self.table.form, deed):
+            raise BadDeed(deed)
+        self.table.must_let_others(deed[1])
 
 
 class Store:

@@ -80,7 +80,31 @@ INTERFACE |= {
         },
     },
 }
+INTERFACE |= {
+    "twins": {
+        "Twin": {
+            "__init__": "(self, program, rows, filters, here, there, outside, *, against=None)", "step": "(self)",
+            "do": "(self, deed)", "world_of": "(self, key)",
+        },
+    },
+    "goals": {
+        "Goal": {
+            "__init__": "(self, kind, field='', *, at_end=False)", "read": "(text)", "__str__": "(self)",
+            "__eq__": "(self, other)",
+        },
+    },
+    "judging": {
+        "Verdict": {"told": "(self)"},
+        "Same": {"told": "(self)", "__bool__": "(self)", "__len__": "(self)"},
+        "Parts": {"told": "(self)", "__bool__": "(self)", "__len__": "(self)"},
+    },
+}
 FUNCTIONS = {
+    "goals": {
+        "usual_goals": "(form)", "goal_of": "(table, goal, world)", "goal_by_move": "(table, goal, world, label)",
+    },
+    "judging": {"judge": "(program, here, there, *, goals=None, against=None, most=3000)"},
+    "papers": {"is_paper": "(program, here, there, thing, *, goals=None, against=None, most=3000)"},
     "runs": {"perform": "(program, rows, filters, book, outside)"},
     "askings": {"ways": "(program, most)"},
 }

@@ -6,15 +6,15 @@ from latequestions.errors import TooMany, Waiting
 from latequestions.runs import Outside
 from latequestions.worlds import Worlds
 from support import Case
-from twinned import Play, Twins, random_book, random_program
+from twinned import WEIGHTS, Play, Twins, random_book, random_program
 
 KEYS = (1, 2, 3, 4)
 
 
-def random_table(seed, most_rows, most):
+def random_table(seed, most_rows, most, weights=WEIGHTS, begin=()):
     """The table of a random program beside a random one that goes along, with the programs and books; or None."""
     chance = random.Random(seed)
-    program = random_program(seed, most_rows)
+    program = random_program(seed, most_rows, weights, begin=begin)
     against = program.turned([row for row in program.turnable() if chance.random() < 0.3])
     here, there = random_book(chance), random_book(chance)
     try:
@@ -65,32 +65,39 @@ class TableRunsTest(Case):
                     self.follow_runs(random.Random(seed), *made)
 
     def follow_runs(self, chance, table, program, against, here, there):
-        form = program.form
-        truth = {}
+        filters, rows = drawn_store(chance, program.form)
+        outside = random_outside(chance, program.form)
+        go_by_followers(self, Twins(program, against, here, there, rows, filters, outside), table, program, outside)
 
-        def filter_of(name):
-            return lambda value: truth.setdefault((name, value), chance.random() < 0.6)
-        filters = {name: filter_of(name) for name in form.filters_of()}
-        rows = {key: {field: 1 for field in form.fields} for key in KEYS if chance.random() < 0.7}
-        outside = random_outside(chance, form)
-        twins = Twins(program, against, here, there, rows, filters, outside)
-        worlds = {key: twins.world_of(key) for key in KEYS}
+
+def drawn_store(chance, form):
+    """Filters that are drawn as they are asked, and rows with equal values."""
+    truth = {}
+
+    def filter_of(name):
+        return lambda value: truth.setdefault((name, value), chance.random() < 0.6)
+    filters = {name: filter_of(name) for name in form.filters_of()}
+    return filters, {key: {field: 1 for field in form.fields} for key in KEYS if chance.random() < 0.7}
+
+
+def go_by_followers(case, twin, table, program, outside):
+    """Checks that two runs go their way through the table for each key, until they are over or wait."""
+    used = {"key": 0, "cut": 0, "list": 0}
+    worlds = {key: twin.world_of(key) for key in KEYS}
+    case.same([table.distance(worlds[key]) for key in KEYS], [0] * len(KEYS))
+    while twin.at < len(program.steps):
+        step = program.steps[twin.at]
+        try:
+            twin.step()
+        except Waiting:
+            return
         for key in KEYS:
-            self.assertEqual(table.distance(worlds[key]), 0)
-        used = {"key": 0, "cut": 0, "list": 0}
-        while not twins.runs[0].is_over:
-            step = program.steps[twins.runs[0].at]
-            try:
-                twins.step()
-            except Waiting:
-                return
-            for key in KEYS:
-                behind = twins.world_of(key)
-                self.assertIn(behind, possible_worlds(table, step, worlds[key], key, outside, used))
-                worlds[key] = behind
-            kind = {"item": "key", "has": "key", "part": "cut", "others": "list"}.get(step.kind)
-            if kind is not None:
-                used[kind] += 1
+            behind = twin.world_of(key)
+            case.assertIn(behind, possible_worlds(table, step, worlds[key], key, outside, used))
+            worlds[key] = behind
+        kind = {"item": "key", "has": "key", "part": "cut", "others": "list"}.get(step.kind)
+        if kind is not None:
+            used[kind] += 1
 
 
 def random_outside(chance, form):

@@ -28,8 +28,12 @@ class Twins:
         self.chosen = {}
         self.keys_taken = 0
 
+    @property
+    def at(self):
+        return self.runs[0].at
+
     def step(self):
-        step = self.runs[0].program.steps[self.runs[0].at]
+        step = self.runs[0].program.steps[self.at]
         for run in self.runs:
             run.step()
         if step.kind in ("item", "has"):
@@ -168,12 +172,12 @@ FORMS = ("a", "a:f", "a:f b", "a b:f", "a:f b:g", "a:f,g")
 WEIGHTS = {"build": 1, "bind": 4, "look": 1, "value": 4, "show": 1, "save": 5, "update": 1, "others": 1, "block": 2}
 
 
-def random_program(seed, most_rows=10, weights=WEIGHTS, forms=FORMS):
-    """A program of random rows; the same seed gives the same one."""
+def random_program(seed, most_rows=10, weights=WEIGHTS, forms=FORMS, begin=()):
+    """A program of random rows behind the rows of begin; the same seed gives the same one."""
     chance = random.Random(seed)
     form = Form.read(chance.choice(forms))
     kinds = [kind for kind in weights for _ in range(weights[kind])]
-    rows, opened = [], []
+    rows, opened = list(begin), []
     for _ in range(most_rows * 10):
         if len(rows) + len(opened) >= most_rows:
             break
