@@ -13,7 +13,7 @@ def is_paper(program, here, there, thing, *, goals=None, against=None, most=MOST
     if thing[0] == "run" and len(thing) == 3:
         return is_run(search, thing[1], thing[2])
     if thing[0] == "never" and len(thing) == 2:
-        return is_closed(search.table, thing[1]) and search.shortest_run() is None
+        return search.table.reach.is_whole(thing[1]) and search.shortest_run() is None
     return False
 
 
@@ -24,9 +24,3 @@ def is_run(search, start, labels):
     except (BadStart, BadLabel):
         return False
 
-
-def is_closed(table, worlds):
-    """Whether any value is a tuple of all worlds of a table and of nothing else."""
-    if not isinstance(worlds, tuple) or not all([world in table for world in worlds]):
-        return False
-    return len(set(worlds)) == len(table)

@@ -1,7 +1,7 @@
 """All worlds, or pairs, that can be reached from the first ones: by breadth, each once, with the shortest ways."""
 
 from latequestions.errors import NoWorld, TooMany
-from latequestions.following import MOST_LEVELS
+from latequestions.following import MOST_LEVELS, must_be_tuple, told_at_start, told_behind_label
 from latequestions.kinds import is_plain
 
 NOWHERE = -1
@@ -59,6 +59,20 @@ class Reach:
     def followers_found(self, thing):
         """The followers of any value: pairs (label, told) by ascending label; raises NoWorld if it was not found."""
         return [(label, self.found[number]) for label, number in self.edges[self.number_found(thing)]]
+
+    def told_after(self, start, labels):
+        """What is behind these labels, both any values; raises BadStart or BadLabel."""
+        told = told_at_start(self.begun, start)
+        must_be_tuple(labels)
+        for label in labels:
+            told = told_behind_label(self.followers_found(told), label)
+        return told
+
+    def is_whole(self, thing):
+        """Whether any value is a tuple of all that was found, in any order, and of nothing else."""
+        if not isinstance(thing, tuple) or not all([self.is_found(told) for told in thing]):
+            return False
+        return len(set(thing)) == len(self.found)
 
     def way_to(self, number):
         """The start and the labels of a shortest way, as a pair."""

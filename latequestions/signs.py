@@ -3,7 +3,7 @@
 from latequestions.moments import CHOICE_KINDS
 from latequestions.sides import Twofold, saved_fields, touched_places
 
-LOOKING = ("len", "truth", "count", "any", "has")
+SHOWING = ("len", "truth", "count", "any", "has", "show")
 BINDING = ("build", "list", "item", "part", "walk", "leave")
 REFUSABLE = ("reread", "delete")
 
@@ -55,8 +55,8 @@ def move_signs(following, world, label):
     step = program.steps[at]
     moment = following.moment_of(world)
     pairs = deed_signs(moment.here, step)
-    if step.kind == "show" or (step.kind in LOOKING and label != (0,)):
-        pairs.extend(shown_signs(moment, step, against.steps[at]))
+    if step.kind in SHOWING and label != (0,) and shows_unlike(moment, step, against.steps[at]):
+        pairs.append(("shown", ""))
     if step.kind in BINDING:
         pairs.extend(dropped_signs(moment, step, against.steps[at], label))
     return [(kind, field, False) for kind, field in pairs]
@@ -87,11 +87,10 @@ def save_signs(side, step, thing):
     return [("crossed", form.fields[place]) for place in crossed] + [("elder", form.fields[place]) for place in elder]
 
 
-def shown_signs(moment, step, other_step):
-    """Whether something else of the row is shown here than there."""
+def shows_unlike(moment, step, other_step):
+    """Whether something else of the row is shown here than there. The shown parts of the steps are then done."""
     one = moment.here.shown_part(step, moment.masks)
-    other = moment.there.shown_part(other_step, moment.masks)
-    return [("shown", "")] if one != other else []
+    return one != moment.there.shown_part(other_step, moment.masks)
 
 
 def dropped_signs(moment, step, other_step, label):

@@ -1,7 +1,7 @@
 """The table of all worlds of a program under two books."""
 
 from latequestions.errors import NotAlong
-from latequestions.following import Following, must_be_tuple, told_at_start, told_behind_label
+from latequestions.following import Following
 from latequestions.reaching import Reach
 
 MOST_WORLDS = 3000
@@ -41,8 +41,4 @@ class Worlds:
 
     def after(self, start, labels):
         """The world behind these labels."""
-        world = told_at_start(self.reach.begun, start)
-        must_be_tuple(labels)
-        for label in labels:
-            world = told_behind_label(self.followers(world), label)
-        return world
+        return self.reach.told_after(start, labels)

@@ -99,7 +99,45 @@ INTERFACE |= {
         "Parts": {"told": "(self)", "__bool__": "(self)", "__len__": "(self)"},
     },
 }
+INTERFACE |= {
+    "realising": {
+        "Real": {"played": "(self)"},
+        "Members": {
+            "__init__": "(self, values)", "__call__": "(self, value)", "__contains__": "(self, x)", "__len__": "(self)",
+        },
+        "Powers": {"__init__": "(self, first=0, by=1)", "__call__": "(self, n, key)"},
+    },
+    "fates": {
+        "Fates": {
+            "__init__": "(self, program, here, there, *, against=None, most=3000)", "fate": "(self, kind, field='')",
+            "text": "(self)",
+        },
+    },
+    "mends": {
+        "Mend": {
+            "__init__": "(self, *rows)", "__len__": "(self)", "__bool__": "(self)", "__contains__": "(self, x)",
+            "__or__": "(self, other)", "__and__": "(self, other)", "__ior__": "(self, other)",
+            "__eq__": "(self, other)", "__str__": "(self)",
+        },
+        "Mends": {
+            "__init__": "(self, program, here, there, rows, *, goals=None, most=500)", "least": "(self)",
+            "fewest": "(self)", "verdict": "(self, mend)", "askings": "(self, mend)", "__len__": "(self)",
+        },
+    },
+    "pairs": {
+        "Comparison": {
+            "__bool__": "(self)", "__len__": "(self)", "beginnings": "(self)", "followers": "(self, pair)",
+            "parted": "(self, pair)", "realised": "(self)",
+        },
+    },
+}
 FUNCTIONS = {
+    "realising": {"realise": "(program, here, there, start, labels, *, against=None)"},
+    "mends": {"judge_mended": "(program, here, there, mend, *, goals=None, most=3000)"},
+    "pairs": {
+        "compare": "(one, here, other, there, *, most=3000)",
+        "is_comparison": "(one, here, other, there, thing, *, most=3000)",
+    },
     "goals": {
         "usual_goals": "(form)", "goal_of": "(table, goal, world)", "goal_by_move": "(table, goal, world, label)",
     },
