@@ -13,16 +13,21 @@ def least_ways(program, book):
     known = {}
     layer = {(0, "", NO_MARK): ()}
     while len(layer) > 0:
-        ahead = {}
-        for track in layer:
+        for track in list(layer):
             known[track] = layer[track]
-        for track in layer:
-            way = (*layer[track], track[0])
-            for behind in tracks_behind(program, book, track):
-                if behind not in known and (behind not in ahead or way < ahead[behind]):
-                    ahead[behind] = way
-        layer = ahead
+        layer = layer_behind(program, book, layer, known)
     return known
+
+
+def layer_behind(program, book, layer, known):
+    """The tracks one step behind those of a layer that are not known yet, as a dict to the least ways to them."""
+    ahead = {}
+    for track in layer:
+        way = (*layer[track], track[0])
+        for behind in tracks_behind(program, book, track):
+            if behind not in known and (behind not in ahead or way < ahead[behind]):
+                ahead[behind] = way
+    return ahead
 
 
 def tracks_behind(program, book, track):

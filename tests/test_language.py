@@ -47,6 +47,65 @@ def handed_to_themselves(tree):
     return lines
 
 
+CHANGING = "append clear extend insert pop remove reverse setdefault update add discard sort".split()
+WALKED_THROUGH = ("enumerate", "zip", "reversed")
+
+
+def walked(node):
+    """The texts of the names, fields and items that a loop over an expression walks, through choices and the like."""
+    if isinstance(node, (ast.Name, ast.Attribute, ast.Subscript)):
+        return [ast.unparse(node)]
+    if isinstance(node, ast.IfExp):
+        return walked(node.body) + walked(node.orelse)
+    if isinstance(node, ast.BoolOp):
+        return [text for part in node.values for text in walked(part)]
+    if isinstance(node, ast.Call) and called(node) in WALKED_THROUGH:
+        return [text for part in node.args for text in walked(part)]
+    if isinstance(node, ast.Call) and getattr(node.func, "attr", "") in ("items", "keys", "values"):
+        return walked(node.func.value)
+    return []
+
+
+def other_names(function, texts):
+    """These texts and all others that the function makes names of the same things by plain assignments."""
+    known = set(texts)
+    while True:
+        more = set(known)
+        for node in nodes(function, ast.Assign):
+            for target in node.targets:
+                group = {ast.unparse(target), *walked(node.value)}
+                if len(group) > 1 and group & more:
+                    more |= group
+        if more == known:
+            return known
+        known = more
+
+
+def changed_texts(node):
+    """The texts of what a statement or a call changes by itself: items that are set or deleted, methods that change."""
+    targets = []
+    if isinstance(node, (ast.Assign, ast.Delete)):
+        targets = [target.value for target in node.targets if isinstance(target, ast.Subscript)]
+    if isinstance(node, ast.AugAssign):
+        targets = [node.target] + ([node.target.value] if isinstance(node.target, ast.Subscript) else [])
+    if isinstance(node, ast.Call) and isinstance(node.func, ast.Attribute) and node.func.attr in CHANGING:
+        targets = [node.func.value]
+    return [ast.unparse(target) for target in targets]
+
+
+def changed_while_walked(tree):
+    """The lines in which a loop or a comprehension changes what it walks, by this or another name of it."""
+    lines = []
+    for function in nodes(tree, ast.FunctionDef):
+        for loop in nodes(function, ast.For, ast.ListComp, ast.DictComp, ast.SetComp):
+            heads = [loop.iter] if isinstance(loop, ast.For) else [part.iter for part in loop.generators]
+            texts = other_names(function, [text for head in heads for text in walked(head)])
+            rows = loop.body if isinstance(loop, ast.For) else [loop]
+            for node in [node for row in rows for node in ast.walk(row)]:
+                lines += [node.lineno for text in changed_texts(node) if text in texts]
+    return sorted(set(lines))
+
+
 VALUE_METHODS = (
     "append clear copy count endswith extend find get index insert isalnum isalpha isdigit islower isspace isupper"
     " items join keys ljust lower lstrip partition pop remove replace reverse rfind rjust rpartition rsplit rstrip"
@@ -141,6 +200,32 @@ class StatementsTest(unittest.TestCase):
             self.assertEqual(handed_to_themselves(ast.parse(text)), [], text)
         for path, tree in trees():
             self.assertEqual(handed_to_themselves(tree), [], path)
+
+    def test_what_a_loop_walks_is_not_changed_in_it(self):
+        wrong = (
+            "for x in xs:\n  xs.append(x)", "for k in d:\n  d[k] = 1", "for k, v in d.items():\n  del d[k]",
+            "for x in self.xs:\n  if x:\n    self.xs.pop()", "for at, x in enumerate(xs):\n  xs[at] += 1",
+            "for x in xs if c else ys:\n  ys.append(x)", "for x in xs or ys:\n  xs.append(x)",
+            "ys = xs\nfor x in xs:\n  ys.append(x)", "ys = self.xs\nfor x in self.xs:\n  ys[0] = x",
+            "ys = xs if c else zs\nfor x in zs:\n  ys.append(x)", "for x in xs:\n  xs += [x]",
+            "ys = [xs.pop() for x in xs]", "for x, y in zip(xs, ys):\n  ys.append(x)",
+            "while layer:\n  ahead = {}\n  for x in layer:\n    ahead[x] = 1\n  layer = ahead",
+            "for x in d[0]:\n  d[0].append(x)",
+        )
+        for text in wrong:
+            rows = "".join([f"  {row}\n" for row in text.split("\n")])
+            self.assertEqual(len(changed_while_walked(ast.parse(f"def f():\n{rows}"))), 1, text)
+        right = (
+            "for x in list(xs):\n  xs.append(x)", "for x in xs:\n  ys.append(x)", "for x in xs:\n  x.append(1)",
+            "ys = list(xs)\nfor x in xs:\n  ys.append(x)", "for x in xs:\n  pass\nxs.append(1)",
+            "while layer:\n  ahead = {}\n  for x in list(layer):\n    ahead[x] = 1\n  layer = ahead",
+            "for x in self.xs:\n  self.ys[x] = 1", "xs = [x for x in xs]", "for x in f(xs):\n  xs[0] = x",
+        )
+        for text in right:
+            rows = "".join([f"  {row}\n" for row in text.split("\n")])
+            self.assertEqual(changed_while_walked(ast.parse(f"def f():\n{rows}")), [], text)
+        for path, tree in trees():
+            self.assertEqual(changed_while_walked(tree), [], path)
 
     def test_methods_that_are_called(self):
         own = [node.name for path, tree in trees() for kind in nodes(tree, ast.ClassDef) for node in kind.body
