@@ -55,4 +55,4 @@ def fate_text(fate):
 
 def table_line(first, others):
     """A line of a table: the first column, and the other ones."""
-    return "".join([f"{first:<9}", *[f" {other:>7}" for other in others]])
+    return "".join([f"{first:<9}"] + [f" {other:>7}" for other in others])

@@ -39,7 +39,7 @@ class Following:
         if step.kind == "pick":
             return [((branch,), (then, here, there, masks)) for branch, then in enumerate(step.then)]
         if step.kind == "others":
-            return [(("go",), (step.then[0], here, there, masks)), *self.deeds_behind(world)]
+            return [(("go",), (step.then[0], here, there, masks))] + self.deeds_behind(world)
         if step.kind in VALUE_KINDS:
             return self.values_behind(world)
         if step.kind in CHOICE_KINDS:

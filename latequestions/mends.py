@@ -73,7 +73,7 @@ class Mends:
         self.verdicts = {}
         for chosen in all_choices(candidates):
             self.verdicts[chosen] = judge_mended(program, here, there, Mend(*chosen), goals=goals, most=most)
-        self.good = [chosen for chosen in self.verdicts if self.verdicts[chosen]]
+        self.good = [turned for turned in self.verdicts if self.verdicts[turned]]
 
     def __len__(self):
         return len(self.good)

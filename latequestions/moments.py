@@ -23,9 +23,9 @@ class Moment:
         """The value that comes out where a new one is added to an old one: it is unlike all values so far, too."""
         return self.new_value(place)
 
-    def note_masks(self, news, masks):
-        """Gives new values, pairs (place of the field, value), their masks."""
-        for (place, value), mask in zip(news, masks):
+    def note_masks(self, news, label):
+        """Gives new values, pairs (place of the field, value), the masks of a label."""
+        for (place, value), mask in zip(news, label):
             self.masks[place][value] = mask
 
     def take_label(self, step, other_step, label):

@@ -49,7 +49,7 @@ class Pairing(Following):
             return []
         step, other_step = self.steps_at(pair)
         if step.kind == "others":
-            return [(("go",), self.pair_behind(pair, ("go",))), *self.deeds_behind(pair)]
+            return [(("go",), self.pair_behind(pair, ("go",)))] + self.deeds_behind(pair)
         return [(label, self.pair_behind(pair, label)) for label in self.mark_labels(pair)]
 
     def steps_at(self, pair):

@@ -3,7 +3,7 @@
 from latequestions.deeds import is_deed
 from latequestions.errors import BadDeed, BadPick, Gone, NoName, OtherForm, Over, Waiting
 from latequestions.kinds import copied, is_integer
-from latequestions.stores import Listing, Question, Store
+from latequestions.stores import Question, Store
 
 
 class Outside:

@@ -2,7 +2,7 @@
 
 from latequestions.books import Book
 from latequestions.errors import BadGoal, NoField, NotAlong, TooMany
-from latequestions.fates import Fates
+from latequestions.fates import Fates, table_line
 from latequestions.forms import Form
 from latequestions.goals import Goal
 from latequestions.judging import judge
@@ -98,6 +98,10 @@ class TextTest(Case):
             "row       missing   extra   twice   shown    gone returns",
             "fate            -       -       -       -       -       -",
         ])
+
+    def test_columns_that_are_too_narrow(self):
+        self.same(table_line("abcdefghij", ["12345678", "-", "1234567"]), "abcdefghij 12345678       - 1234567")
+        self.same(table_line("abcdefghi", []), "abcdefghi")
 
     def test_two_digits(self):
         program = Program(["q = all", *["count q"] * 9, "x = q[?]", "y = q[?]"], Form.read("c b a"))
