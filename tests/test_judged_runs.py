@@ -51,6 +51,17 @@ def drawn_programs(seed):
     return chance, program, against, random_book(chance), random_book(chance)
 
 
+def show_and_leave_the_same(case, chance, one, other):
+    """Checks drawn runs of two pairs (program, book)."""
+    for _ in range(12):
+        rows, filters, outside = drawn_run(chance, one[0].form)
+        shown, refused, left, asked, is_over = perform(one[0], rows, filters, one[1], outside)
+        other_shown, refused, other_left, asked, other_is_over = perform(other[0], rows, filters, other[1], outside)
+        case.same([shown, is_over], [other_shown, other_is_over])
+        if is_over:
+            case.same(left, other_left)
+
+
 class JudgedTest(Case):
 
     def test_drawn_programs(self):
@@ -64,20 +75,10 @@ class JudgedTest(Case):
             counts[bool(verdict)] += 1
             with self.subTest(seed):
                 if verdict:
-                    self.show_and_leave_the_same(chance, program, against, here, there)
+                    show_and_leave_the_same(self, chance, (program, here), (against, there))
                 else:
                     self.part_as_told(program, against, here, there, verdict)
         self.assertTrue(min(counts.values()) > 40, counts)
-
-    def show_and_leave_the_same(self, chance, program, against, here, there):
-        for _ in range(12):
-            drawn = drawn_run(chance, program.form)
-            one = perform(program, *drawn[:2], here, drawn[2])
-            other = perform(against, *drawn[:2], there, drawn[2])
-            self.same(one[0], other[0])
-            self.same(one[4], other[4])
-            if one[4]:
-                self.same(one[2], other[2])
 
     def part_as_told(self, program, against, here, there, verdict):
         """The run of the paper, made real: something else is shown, or other rows are left."""

@@ -11,10 +11,9 @@ from latequestions.judging import Parts, Same, judge
 from latequestions.mends import Mend, Mends, judge_mended
 from latequestions.papers import is_paper
 from latequestions.programs import Program
-from latequestions.runs import perform
 from latequestions.worlds import Worlds
 from support import ODD_VALUES, Case
-from test_judged_runs import drawn_run
+from test_judged_runs import show_and_leave_the_same
 from test_judging import ELDER, FORM, goals_of
 from twinned import random_book, random_program
 
@@ -269,17 +268,8 @@ class RandomTest(Case):
                 continue
             for mend in [mend for mend in least if mend]:
                 checked += 1
-                self.check_runs(chance, program.turned(mend.rows), here, program, there)
+                show_and_leave_the_same(self, chance, (program.turned(mend.rows), here), (program, there))
         self.assertTrue(checked > 5, checked)
-
-    def check_runs(self, chance, turned, here, program, there):
-        for _ in range(25):
-            store_rows, filters, outside = drawn_run(chance, program.form)
-            one = perform(turned, store_rows, filters, here, outside)
-            other = perform(program, store_rows, filters, there, outside)
-            self.same([one[0], one[4]], [other[0], other[4]])
-            if one[4]:
-                self.same(one[2], other[2])
 
 
 BEGINS = (["q = all", "others", "x = q[?]"], ["q = all", "x = q[?]", "others"], ["q = all", "len q", "others"])

@@ -6,10 +6,9 @@ from latequestions.errors import LateError, TooMany
 from latequestions.judging import judge
 from latequestions.pairs import compare, is_comparison
 from latequestions.programs import Program
-from latequestions.runs import perform
 from paired import PairPlay
 from support import Case
-from test_judged_runs import drawn_run
+from test_judged_runs import show_and_leave_the_same
 from twinned import random_book, random_program
 
 BEGINS = ([], ["q = all", "x = q[?]"], ["q = all", "others", "x = q[?]"], ["q = all", "r = q", "len q", "others"])
@@ -125,20 +124,11 @@ class PairedTest(Case):
             with self.subTest(seed):
                 if comparison:
                     counts[True] += one.rows != other.rows
-                    self.show_and_leave_the_same(chance, one, here, other, there)
+                    show_and_leave_the_same(self, chance, (one, here), (other, there))
                 else:
                     counts[comparison.paper[3]] += 1
                     self.part_as_told(comparison)
         self.assertTrue(min(counts.values()) > 20, counts)
-
-    def show_and_leave_the_same(self, chance, one, here, other, there):
-        for _ in range(10):
-            rows, filters, outside = drawn_run(chance, one.form)
-            told = perform(one, rows, filters, here, outside)
-            other_told = perform(other, rows, filters, there, outside)
-            self.same([told[0], told[4]], [other_told[0], other_told[4]])
-            if told[4]:
-                self.same(told[2], other_told[2])
 
     def part_as_told(self, comparison):
         one, other = comparison.realised().played()
