@@ -389,6 +389,11 @@ class ErrorsTest(GoalCase):
                 self.fails(NoField, {"field": field}, goal_by_move, self.told, goal, self.world, (1,))
         self.fails(NoField, {"field": "c"}, goal_of, self.told, Goal("differs", "c", at_end=True), self.world)
 
+    def test_a_field_where_none_belongs_and_none_where_one_does(self):
+        for goal, field in ((Goal("differs"), ""), (Goal("elder"), ""), (Goal("missing", "c"), "c")):
+            self.fails(NoField, {"field": field}, goal_of, self.told, goal, self.world)
+            self.fails(NoField, {"field": field}, goal_by_move, self.told, goal, self.world, (1,))
+
     def test_worlds(self):
         wrong = ODD_VALUES + [0, "", list(self.world), (True, *self.world[1:]), (9, *self.world[1:]), (self.world,)]
         for text in ("differs a", "missing", "twice end", "shown", "elder b", "returns"):

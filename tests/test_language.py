@@ -125,6 +125,38 @@ def called(node):
     return node.func.id if isinstance(node, ast.Call) and isinstance(node.func, ast.Name) else ""
 
 
+def takes(function, call, first):
+    """Whether a call without stars passes what a function takes, from its parameter of this number on."""
+    if [arg for arg in call.args if isinstance(arg, ast.Starred)] or [one for one in call.keywords if one.arg is None]:
+        return True
+    plain = [arg.arg for arg in function.args.args][first:]
+    behind = [arg.arg for arg in function.args.kwonlyargs]
+    given = plain[:len(call.args)] + [one.arg for one in call.keywords]
+    needed = plain[:len(plain) - len(function.args.defaults)]
+    needed += [name for name, value in zip(behind, function.args.kw_defaults) if value is None]
+    if len(call.args) > len(plain) and not function.args.vararg or len(given) != len(set(given)):
+        return False
+    known = not [name for name in given if name not in plain + behind] or function.args.kwarg is not None
+    return known and not [name for name in needed if name not in given]
+
+
+def defined():
+    """Dicts from the names of functions to functions, of classes to their `__init__` or None, of methods to methods."""
+    functions, classes, methods, bases = {}, {}, {}, {}
+    for path, tree in trees():
+        functions |= {node.name: node for node in tree.body if isinstance(node, ast.FunctionDef)}
+        for kind in nodes(tree, ast.ClassDef):
+            own = [node for node in kind.body if isinstance(node, ast.FunctionDef)]
+            bases[kind.name] = [base.id for base in kind.bases]
+            classes[kind.name] = ([node for node in own if node.name == "__init__"] + [None])[0]
+            for node in own:
+                methods.setdefault(node.name, []).append(node)
+    for name in classes:
+        for base in bases[name]:
+            classes[name] = classes[name] or classes.get(base)
+    return functions, classes, methods
+
+
 class FilesTest(unittest.TestCase):
 
     def test_the_folder_holds_plain_files_only(self):
@@ -226,6 +258,32 @@ class StatementsTest(unittest.TestCase):
             self.assertEqual(changed_while_walked(ast.parse(f"def f():\n{rows}")), [], text)
         for path, tree in trees():
             self.assertEqual(changed_while_walked(tree), [], path)
+
+    def test_calls_pass_what_is_taken(self):
+        function = ast.parse("def f(a, b=1, *, c, d=2): pass").body[0]
+        for text, told in (("f(1, c=2)", True), ("f(1, 2, c=3, d=4)", True), ("f(a=1, c=2)", True), ("f(c=1)", False),
+                           ("f(1)", False), ("f(1, 2, 3, c=4)", False), ("f(1, c=2, e=3)", False), ("f(*x)", True),
+                           ("f(1, a=1, c=2)", False)):
+            self.assertEqual(takes(function, ast.parse(text).body[0].value, 0), told, text)
+        functions, classes, methods = defined()
+        for path, tree in trees():
+            for node in nodes(tree, ast.Call):
+                name = called(node)
+                if name in functions:
+                    self.assertTrue(takes(functions[name], node, 0), (path, node.lineno))
+                elif name in classes and classes[name] is None:
+                    self.assertEqual(node.args + node.keywords, [], (path, node.lineno))
+                elif name in classes:
+                    self.assertTrue(takes(classes[name], node, 1), (path, node.lineno))
+                elif isinstance(node.func, ast.Attribute) and node.func.attr not in VALUE_METHODS + ["__init__"]:
+                    fitting = [method for method in methods.get(node.func.attr, []) if takes(method, node, 1)]
+                    self.assertTrue(fitting, (path, node.lineno))
+
+    def test_no_import_is_left_over(self):
+        for path, tree in trees():
+            used = [node.id for node in nodes(tree, ast.Name)]
+            taken = [alias.name for node in nodes(tree, ast.ImportFrom) for alias in node.names]
+            self.assertEqual([name for name in taken if name not in used], [], path)
 
     def test_methods_that_are_called(self):
         own = [node.name for path, tree in trees() for kind in nodes(tree, ast.ClassDef) for node in kind.body

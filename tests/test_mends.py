@@ -127,6 +127,17 @@ class MendsTest(Case):
                 if judge(other.turned(rows), USUAL, USUAL, goals=goals_of("elder a", "elder b"), against=other)]
         self.same([least, len(mends)], [least_of(good), len(good)])
 
+    def test_least_mends_of_unlike_numbers_of_rows(self):
+        program = Program(["q = all", "x = q[?]", "others", "x.b = ?", "save x", "save x"], Form.read("a b"))
+        goals = goals_of("elder a")
+        # A reread before the value is set is enough; otherwise both saves must store no more than what is touched.
+        for rows in ([3, 4, 5], (5, 4, 3, 0)):
+            mends = Mends(program, USUAL, USUAL, rows, goals=goals)
+            self.same([mend.rows for mend in mends.least()], [(3,), (4, 5)])
+            self.same([mend.rows for mend in mends.fewest()], [(3,)])
+        self.same(len(Mends(program, USUAL, USUAL, [3, 4, 5], goals=goals)), 5)
+        self.same([mend.rows for mend in Mends(program, USUAL, USUAL, [4, 5], goals=goals).fewest()], [(4, 5)])
+
     def test_no_candidates(self):
         mends = Mends(ELDER, USUAL, USUAL, [])
         self.same([[mend.rows for mend in mends.least()], [mend.rows for mend in mends.fewest()], len(mends)],

@@ -50,7 +50,7 @@ class MembersTest(Case):
         self.assertFalse(members == Members([1]))
 
     def test_true_is_no_one(self):
-        self.same([True in Members([1]), False in Members([0])], [False, False])
+        self.same([True in Members([1]), False in Members([0]), Members([1])(True)], [False, False, False])
 
 
 class PowersTest(Case):
@@ -144,6 +144,14 @@ class RealTest(Case):
         self.same([len(several) for several in real.outside.deeds], [0, 1])
         real = realise(program, USUAL, PLAIN, (), (("go",), ("put", 0), ("go",), ("remove",), ("put", 0), ("go",)))
         self.same([len(several) for several in real.outside.deeds], [0, 1, 2])
+
+    def test_keys_and_cuts(self):
+        rows = ["q = all", "x = q[?]", "has q[?]", "xs = q[?:?]", "x = xs[?]", "ys = q[?:?]"]
+        program = Program(rows, Form.read("a"))
+        real = realise(program, USUAL, PLAIN, (0,), ((), (1,), (0,), (1,), (0,), (0,)))
+        self.same([real.outside.choices, real.outside.cuts], [(1, 2, 2), ((1, 2), (2, 3))])
+        real = realise(program, USUAL, PLAIN, (), ((), (0,), (1,), (0,), (1,), (1,)))
+        self.same([real.outside.choices, real.outside.cuts], [(2, 1, 1), ((2, 3), (1, 2))])
 
     def test_labels_that_end_in_the_middle_of_an_others(self):
         program = Program(["q = all", "others", "len q"], Form.read("a"))
