@@ -63,6 +63,7 @@ class Mends:
     """All mends out of some rows of a program, and their verdicts."""
 
     def __init__(self, program, here, there, rows, *, goals=None, most=500):
+        # Turning all rows raises NoTurn for the first one that cannot be turned, whatever value it is.
         program.turned(rows)
         candidates = ordered(rows)
         if len(candidates) > MOST_CANDIDATES:
