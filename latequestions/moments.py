@@ -74,7 +74,8 @@ class Moment:
 
     def put_rows(self):
         """Puts the row with new values into both stores; returns them as pairs (place, value)."""
-        news = [(place, self.new_value(place)) for place in range(len(self.masks))]
+        fields = self.here.program.form.fields
+        news = [(place, self.new_value(place)) for place in range(len(fields))]
         self.here.change_row([value for place, value in news])
         self.there.change_row([value for place, value in news])
         return news

@@ -23,4 +23,3 @@ def is_run(search, start, labels):
         return len(search.reached_goals(start, labels)) > 0
     except (BadStart, BadLabel):
         return False
-

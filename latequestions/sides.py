@@ -1,7 +1,7 @@
 """Where a run stands for one row, and what the steps of its program do there.
 
 Values are integers without a meaning of their own: equal ones stand for equal values of a field, and `masks` has for
-each field, by ascending field, a list in which the value is the index of its mask.
+each field, by ascending field, a list or a dict in which the mask of a value stands at this value.
 """
 
 from latequestions.books import Book
