@@ -12,7 +12,7 @@ from latequestions.realising import Members, Powers, Real, realise
 from latequestions.runs import Outside, perform
 from latequestions.twins import Twin
 from latequestions.worlds import Worlds
-from noticed import all_goals
+from noticed import Noticing, all_goals
 from support import GREATEST_VALUE, ODD_VALUES, Case
 from test_table_runs import random_table
 
@@ -310,11 +310,17 @@ class WorldsOfRunsTest(Case):
             table, program, against, here, there = made
             for text in all_goals(program.form):
                 goal = Goal.read(text)
+                verdict = judge(program, here, there, goals=[goal], against=against)
+                if verdict:
+                    continue
+                word, start, labels = verdict.paper
+                real = realise(program, here, there, start, labels, against=against)
+                self.same(*self.told_and_expected(table, real, start, labels))
+                if goal.kind in Goal.MOVES:
+                    self.assertIn(text, Noticing(program, against, here, there, start, labels).moves)
                 if goal.kind in seen and (goal.at_end or goal.kind in Goal.MOVES):
-                    verdict = judge(program, here, there, goals=[goal], against=against)
-                    if not verdict:
-                        seen[goal.kind] += 1
-                        self.check_played(goal, realise(program, here, there, *verdict.paper[1:], against=against))
+                    seen[goal.kind] += 1
+                    self.check_played(goal, real)
         self.assertTrue(min(seen.values()) > 3, seen)
 
     def check_played(self, goal, real):
